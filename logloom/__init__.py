@@ -1,0 +1,1 @@
+"""Logloom: rows that programs say, and the forms behind them."""
