@@ -69,8 +69,12 @@ def is_item(text):
     return Number().takes(text) or Name().takes(text)
 
 
+def all_sorts():
+    return (Number(), Name(), Items(), Mark())
+
+
 def sort_of(text):
-    for sort in (Number(), Name(), Items(), Mark()):
+    for sort in all_sorts():
         if sort.takes(text):
             return sort.word()
     return None

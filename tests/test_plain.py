@@ -3,21 +3,35 @@
 import copy
 import unittest
 
-from logloom.errors import NoFit, NoGap, NoRow
+from logloom.errors import LoomError
 from logloom.forms import gaps_of, writes, written
+from logloom.groups import forms_of, groups
+from logloom.joins import least_form, unlike
+from logloom.machines import lets_by, room_behind, ways
 from logloom.rows import words_of
+from logloom.showing import read_form, shown_form
 from logloom.sorts import Items, Mark, Name, Number, Sort, sort_of
-from plain import is_plain
+from logloom.strangers import strangers
+from trying import is_plain
 
 FORM = (("word", "open"), ("gap", "name"), ("word", "[]"), ("gap", "list"))
 ROW = ("open", "file", "[]", "[a,1]")
+ROWS = (("a", "b"), ("a", "c"), ("1", "2"), ("a", "b"))
+NINE = tuple((str(number), "A") for number in range(9))
+MACHINE = (2, ((True, (1, 0)), (False, (1, 1))))
 
 CALLS = [
     (sort_of, ("a",)), (sort_of, ("",)), (words_of, ("open file [] [a,1]",)),
     (writes, (FORM, ROW)), (gaps_of, (FORM, ROW)), (written, (FORM, ("file", "[a,1]"))),
+    (shown_form, (FORM,)), (read_form, ("open <name> [] <list>",)),
+    (least_form, (ROWS[:2],)), (least_form, (ROWS,)), (unlike, (ROWS,)),
+    (groups, (ROWS, 1)), (forms_of, (ROWS, 1)), (strangers, (ROWS, 1)), (groups, ((), 2)),
+    (room_behind, (MACHINE, 0, (1, 0))), (lets_by, (MACHINE, (1, 0))), (ways, (MACHINE,)),
 ]
 REFUSED = [
-    (words_of, ("a  b",)), (gaps_of, (FORM, ROW[:2])), (written, (FORM, ("file",))),
+    (words_of, ("a  b",), "at"), (gaps_of, (FORM, ROW[:2]), "at"), (written, (FORM, ("file",)), "at"),
+    (read_form, ("a <b>",), "at"), (groups, (NINE,), "number"), (forms_of, (NINE,), "number"),
+    (strangers, (NINE,), "number"),
 ]
 
 
@@ -43,10 +57,10 @@ class Plain(unittest.TestCase):
             self.assertEqual(function(*handed), function(*handed), function.__name__)
 
     def test_the_fields_of_refusals_are_whole_numbers(self):
-        for function, handed in REFUSED:
-            with self.assertRaises((NoRow, NoFit, NoGap)) as caught:
+        for function, handed, field in REFUSED:
+            with self.assertRaises(LoomError) as caught:
                 function(*handed)
-            self.assertIs(type(caught.exception.at), int, function.__name__)
+            self.assertIs(type(getattr(caught.exception, field)), int, function.__name__)
 
 
 if __name__ == "__main__":
