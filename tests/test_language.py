@@ -1,4 +1,4 @@
-"""The package keeps to LANGUAGE.md: the rules that can be seen in the written code, by their numbers."""
+"""The package keeps to LANGUAGE.md: most of its rules, by their numbers; of L19, L22, L26 and L28 only a little."""
 
 import ast
 import builtins
