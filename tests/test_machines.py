@@ -1,10 +1,9 @@
 """Points 11 and 12: machines, runs, and the ways to the rooms."""
 
-import itertools
-import random
 import unittest
 
 from logloom.machines import lets_by, room_behind, ways
+from trying import machines_drawn, runs_in_order
 
 # Lets by the runs with an even number of ones.
 EVEN = (2, ((True, (0, 1)), (False, (1, 0))))
@@ -12,23 +11,6 @@ EVEN = (2, ((True, (0, 1)), (False, (1, 0))))
 STAIRS = (2, ((False, (1, 0)), (False, (2, 0)), (True, (2, 0))))
 DUMB_GOOD = (0, ((True, ()),))
 DUMB_BAD = (0, ((False, ()), (True, ())))
-
-
-def drawn(seed, turns):
-    chance = random.Random(seed)
-    for turn in range(turns):
-        many = chance.randint(0, 3)
-        size = chance.randint(1, 6)
-        rooms = []
-        for room in range(size):
-            nexts = tuple(chance.randrange(size) for letter in range(many))
-            rooms.append((chance.choice((True, False)), nexts))
-        yield many, tuple(rooms)
-
-
-def runs_in_order(many, longest):
-    for length in range(longest + 1):
-        yield from itertools.product(range(many), repeat=length)
 
 
 def ways_by_trying(machine):
@@ -70,7 +52,7 @@ class RoomBehind(unittest.TestCase):
         self.assertEqual(room_behind(STAIRS, 0, (0, 1) * 100), 0)
 
     def test_a_run_in_two_parts(self):
-        for machine in drawn(11, 100):
+        for machine in machines_drawn(11, 100):
             for run in runs_in_order(machine[0], 3):
                 for cut in range(len(run) + 1):
                     there = room_behind(machine, 0, run[:cut])
@@ -108,7 +90,7 @@ class LetsBy(unittest.TestCase):
 class Ways(unittest.TestCase):
     def test_room_0_with_the_empty_run_first(self):
         self.assertEqual(ways(DUMB_GOOD), ((0, ()),))
-        for machine in drawn(12, 50):
+        for machine in machines_drawn(12, 50):
             self.assertEqual(ways(machine)[0], (0, ()))
 
     def test_rooms_that_no_run_reaches_are_not_told(self):
@@ -136,7 +118,7 @@ class Ways(unittest.TestCase):
         self.assertEqual(told, tuple((room, (0,) * room) for room in range(150)))
 
     def test_held_against_all_runs(self):
-        for machine in drawn(13, 300):
+        for machine in machines_drawn(13, 300):
             told = ways(machine)
             self.assertEqual(told, ways_by_trying(machine), machine)
             order = [(len(run), run) for room, run in told]

@@ -6,8 +6,12 @@ import unittest
 from logloom.errors import LoomError
 from logloom.forms import gaps_of, writes, written
 from logloom.groups import forms_of, groups
+from logloom.joined import joined
 from logloom.joins import least_form, unlike
+from logloom.learning import learnt
+from logloom.least import least
 from logloom.machines import lets_by, room_behind, ways
+from logloom.parting import machines_part, rooms_part
 from logloom.rows import words_of
 from logloom.showing import read_form, shown_form
 from logloom.sorts import Items, Mark, Name, Number, Sort, sort_of
@@ -19,6 +23,7 @@ ROW = ("open", "file", "[]", "[a,1]")
 ROWS = (("a", "b"), ("a", "c"), ("1", "2"), ("a", "b"))
 NINE = tuple((str(number), "A") for number in range(9))
 MACHINE = (2, ((True, (1, 0)), (False, (1, 1))))
+OTHER = (2, ((True, (1, 1)), (True, (2, 0)), (False, (2, 2)), (True, (0, 0))))
 
 CALLS = [
     (sort_of, ("a",)), (sort_of, ("",)), (words_of, ("open file [] [a,1]",)),
@@ -27,11 +32,19 @@ CALLS = [
     (least_form, (ROWS[:2],)), (least_form, (ROWS,)), (unlike, (ROWS,)),
     (groups, (ROWS, 1)), (forms_of, (ROWS, 1)), (strangers, (ROWS, 1)), (groups, ((), 2)),
     (room_behind, (MACHINE, 0, (1, 0))), (lets_by, (MACHINE, (1, 0))), (ways, (MACHINE,)),
+    (rooms_part, (OTHER, 0, 1)), (rooms_part, (OTHER, 1, 1)), (machines_part, (MACHINE, OTHER)),
+    (machines_part, (MACHINE, MACHINE)), (least, (OTHER,)), (joined, ("both", MACHINE, OTHER)),
+    (joined, ("either", MACHINE, OTHER)), (joined, ("less", MACHINE, OTHER)), (joined, ("unlike", MACHINE, OTHER)),
+    (learnt, (2, lambda run: lets_by(OTHER, run), lambda machine: machines_part(OTHER, machine), 4)),
 ]
 REFUSED = [
     (words_of, ("a  b",), "at"), (gaps_of, (FORM, ROW[:2]), "at"), (written, (FORM, ("file",)), "at"),
     (read_form, ("a <b>",), "at"), (groups, (NINE,), "number"), (forms_of, (NINE,), "number"),
     (strangers, (NINE,), "number"),
+    (learnt, (2, lambda run: lets_by(OTHER, run), lambda machine: machines_part(OTHER, machine), 2), "number"),
+]
+REFUSED_WITH_RUN = [
+    (learnt, (2, lambda run: lets_by(OTHER, run), lambda machine: (), 4)),
 ]
 
 
@@ -61,6 +74,12 @@ class Plain(unittest.TestCase):
             with self.assertRaises(LoomError) as caught:
                 function(*handed)
             self.assertIs(type(getattr(caught.exception, field)), int, function.__name__)
+
+    def test_the_runs_of_refusals_are_tuples(self):
+        for function, handed in REFUSED_WITH_RUN:
+            with self.assertRaises(LoomError) as caught:
+                function(*handed)
+            self.assertIs(type(caught.exception.run), tuple, function.__name__)
 
 
 if __name__ == "__main__":

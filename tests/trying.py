@@ -1,6 +1,8 @@
-"""What several tests hold answers against, written apart from the program: plain values, forms tried out one by one."""
+"""What several tests hold answers against, written apart from the program: plain values, and forms, machines and runs
+gone through one by one."""
 
 import itertools
+import random
 
 from logloom.forms import writes
 from logloom.sorts import sort_of
@@ -41,3 +43,74 @@ def some_rows(chance, many, length, words):
     for row in range(many):
         rows.append(tuple(chance.choice(words) for word in range(length)))
     return tuple(dict.fromkeys(rows))
+
+
+def a_machine(chance, many, size):
+    rooms = []
+    for room in range(size):
+        nexts = tuple(chance.randrange(size) for letter in range(many))
+        rooms.append((chance.choice((True, False)), nexts))
+    return many, tuple(rooms)
+
+
+def machines_drawn(seed, turns, most_letters=3, most_rooms=6):
+    chance = random.Random(seed)
+    for turn in range(turns):
+        many = chance.randint(0, most_letters)
+        yield a_machine(chance, many, chance.randint(1, most_rooms))
+
+
+def all_machines(many, size):
+    """Each machine of so many letters and rooms."""
+    leads = list(itertools.product(range(size), repeat=many))
+    rooms = list(itertools.product((False, True), leads))
+    for chosen in itertools.product(rooms, repeat=size):
+        yield many, chosen
+
+
+def runs_in_order(many, longest):
+    for length in range(longest + 1):
+        yield from itertools.product(range(many), repeat=length)
+
+
+def is_let_by(machine, run, room=0):
+    for letter in run:
+        room = machine[1][room][1][letter]
+    return machine[1][room][0]
+
+
+def least_machine_by_trying(machine):
+    """Rooms are what is let by behind a run: so many letters as there are rooms tell all of them apart."""
+    many, size = machine[0], len(machine[1])
+    tails = list(runs_in_order(many, size - 1))
+    numbers, firsts = {}, []
+    for run in runs_in_order(many, size - 1):
+        told = tuple(is_let_by(machine, run + tail) for tail in tails)
+        if told not in numbers:
+            numbers[told] = len(numbers)
+            firsts.append(run)
+    rooms = []
+    for run in firsts:
+        behind = [tuple(is_let_by(machine, run + (letter,) + tail) for tail in tails) for letter in range(many)]
+        rooms.append((is_let_by(machine, run), tuple(numbers[told] for told in behind)))
+    return many, tuple(rooms)
+
+
+def shuffled(chance, machine):
+    """The same machine with its rooms, but for the first one, in another order."""
+    many, rooms = machine
+    places = list(range(1, len(rooms)))
+    chance.shuffle(places)
+    places = [0] + places
+    numbers = {room: place for place, room in enumerate(places)}
+    return many, tuple((rooms[room][0], tuple(numbers[there] for there in rooms[room][1])) for room in places)
+
+
+def doubled(chance, machine):
+    """Each room twice, and by each letter to one of both by chance: the same runs are let by."""
+    many, rooms = machine
+    found = []
+    for room in range(2 * len(rooms)):
+        good, nexts = rooms[room % len(rooms)]
+        found.append((good, tuple(there + len(rooms) * chance.randrange(2) for there in nexts)))
+    return many, tuple(found)
