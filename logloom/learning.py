@@ -34,7 +34,8 @@ class Table:
             if len(self.heads) > most:
                 raise TooGreat(most)
             head = self.heads[done]
-            for letter, marks in enumerate(self.marks_behind(head, may)):
+            behind = self.marks_behind(head, may)
+            for letter, marks in enumerate(behind):
                 if marks not in known:
                     known.append(marks)
                     self.heads.append(head + (letter,))

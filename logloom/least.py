@@ -11,7 +11,8 @@ def least(machine):
     numbers = {kinds[0]: 0}
     done = 0
     while done < len(chosen):
-        for there in rooms[chosen[done]][1]:
+        here = chosen[done]
+        for there in rooms[here][1]:
             if kinds[there] not in numbers:
                 numbers[kinds[there]] = len(chosen)
                 chosen.append(there)

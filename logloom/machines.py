@@ -1,6 +1,11 @@
 """Machines, the rooms that runs lead to, and the runs that are let by."""
 
 
+def run_order(run):
+    # By this runs are sorted: the shorter one first, then the one that is less.
+    return (len(run), run)
+
+
 def room_behind(machine, room, run):
     rooms = machine[1]
     here = room

@@ -3,6 +3,8 @@
 import copy
 import unittest
 
+from logloom.asking import question_of
+from logloom.beginnings import apart, beginnings
 from logloom.errors import LoomError
 from logloom.forms import gaps_of, writes, written
 from logloom.groups import forms_of, groups
@@ -10,8 +12,10 @@ from logloom.joined import joined
 from logloom.joins import least_form, unlike
 from logloom.learning import learnt
 from logloom.least import least
+from logloom.lonely import lonely
 from logloom.machines import lets_by, room_behind, ways
 from logloom.parting import machines_part, rooms_part
+from logloom.reading import read_off
 from logloom.rows import words_of
 from logloom.showing import read_form, shown_form
 from logloom.sorts import Items, Mark, Name, Number, Sort, sort_of
@@ -24,6 +28,12 @@ ROWS = (("a", "b"), ("a", "c"), ("1", "2"), ("a", "b"))
 NINE = tuple((str(number), "A") for number in range(9))
 MACHINE = (2, ((True, (1, 0)), (False, (1, 1))))
 OTHER = (2, ((True, (1, 1)), (True, (2, 0)), (False, (2, 2)), (True, (0, 0))))
+GOOD, BAD = ((0, 0), ()), ((0,), (1, 1))
+LOG = ((0, ("a",)), (1, ("a",)), (0, ("a",)), (2, ()), (0, ("b",)))
+QUESTIONS = (
+    "row 0", "with 0 0 a", "behind 0 0 1 0 3", "ahead 0 0 1 0 3", "times 3 2 row 0", "both row 0 ahead 0 0 0 0 9",
+    "either row 1 not row 2", "not row 0",
+)
 
 CALLS = [
     (sort_of, ("a",)), (sort_of, ("",)), (words_of, ("open file [] [a,1]",)),
@@ -36,15 +46,20 @@ CALLS = [
     (machines_part, (MACHINE, MACHINE)), (least, (OTHER,)), (joined, ("both", MACHINE, OTHER)),
     (joined, ("either", MACHINE, OTHER)), (joined, ("less", MACHINE, OTHER)), (joined, ("unlike", MACHINE, OTHER)),
     (learnt, (2, lambda run: lets_by(OTHER, run), lambda machine: machines_part(OTHER, machine), 4)),
+    (beginnings, (GOOD, BAD)), (apart, (GOOD, BAD, (), (0,))), (apart, (GOOD, BAD, (0,), (0,))),
+    (read_off, (2, GOOD, BAD, 3)), (lonely, (GOOD, BAD, 2)), (lonely, (GOOD, BAD, 5)), (lonely, (GOOD, BAD, 0)),
 ]
 REFUSED = [
     (words_of, ("a  b",), "at"), (gaps_of, (FORM, ROW[:2]), "at"), (written, (FORM, ("file",)), "at"),
     (read_form, ("a <b>",), "at"), (groups, (NINE,), "number"), (forms_of, (NINE,), "number"),
     (strangers, (NINE,), "number"),
     (learnt, (2, lambda run: lets_by(OTHER, run), lambda machine: machines_part(OTHER, machine), 2), "number"),
+    (read_off, (2, GOOD, BAD, 1), "number"), (read_off, (8, ((0,) * 8, (1,) * 8), (), 4), "number"),
+    (question_of, ("row 9",), "at"),
 ]
 REFUSED_WITH_RUN = [
     (learnt, (2, lambda run: lets_by(OTHER, run), lambda machine: (), 4)),
+    (read_off, (2, GOOD, BAD + GOOD, 3)),
 ]
 
 
@@ -58,6 +73,15 @@ class Plain(unittest.TestCase):
         for sort in (Sort(), Number(), Name(), Items(), Mark()):
             self.assertIs(type(sort.word()), str)
             self.assertIs(type(sort.takes("a")), bool)
+
+    def test_questions_tell_plain_values(self):
+        for text in QUESTIONS:
+            question = question_of(text)
+            self.assertIs(type(question.back()), int)
+            self.assertIs(type(question.on()), int)
+            for n in range(len(LOG)):
+                told = question.found(LOG, n)
+                self.assertTrue(told is None or (type(told) is tuple and is_plain(told)), text)
 
     def test_what_is_handed_in_is_not_changed(self):
         for function, handed in CALLS:

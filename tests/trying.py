@@ -114,3 +114,14 @@ def doubled(chance, machine):
         good, nexts = rooms[room % len(rooms)]
         found.append((good, tuple(there + len(rooms) * chance.randrange(2) for there in nexts)))
     return many, tuple(found)
+
+
+def runs_drawn(chance, many, most_runs, longest):
+    """Good runs and bad runs, none of them both."""
+    good, bad = [], []
+    for place in range(chance.randint(0, 2 * most_runs)):
+        run = tuple(chance.randrange(many) for letter in range(chance.randint(0, longest)))
+        kind, others = (good, bad) if chance.random() < 0.5 else (bad, good)
+        if run not in others and len(kind) < most_runs:
+            kind.append(run)
+    return tuple(good), tuple(bad)
