@@ -14,12 +14,16 @@ from logloom.learning import learnt
 from logloom.least import least
 from logloom.lonely import lonely
 from logloom.machines import lets_by, room_behind, ways
+from logloom.odd import is_odd, odd
 from logloom.parting import machines_part, rooms_part
 from logloom.reading import read_off
 from logloom.rows import words_of
 from logloom.showing import read_form, shown_form
 from logloom.sorts import Items, Mark, Name, Number, Sort, sort_of
 from logloom.strangers import strangers
+from logloom.stretches import shown, useful
+from logloom.walking import walked
+from logloom.watches import Watch
 from trying import is_plain
 
 FORM = (("word", "open"), ("gap", "name"), ("word", "[]"), ("gap", "list"))
@@ -48,6 +52,8 @@ CALLS = [
     (learnt, (2, lambda run: lets_by(OTHER, run), lambda machine: machines_part(OTHER, machine), 4)),
     (beginnings, (GOOD, BAD)), (apart, (GOOD, BAD, (), (0,))), (apart, (GOOD, BAD, (0,), (0,))),
     (read_off, (2, GOOD, BAD, 3)), (lonely, (GOOD, BAD, 2)), (lonely, (GOOD, BAD, 5)), (lonely, (GOOD, BAD, 0)),
+    (useful, (OTHER,)), (shown, (OTHER, (1,), False, False)), (shown, (MACHINE, (0,), True, True)),
+    (is_odd, (OTHER, (1,), True, True)), (odd, (MACHINE, (1, 0, 1))), (odd, (MACHINE, (1, 1))),
 ]
 REFUSED = [
     (words_of, ("a  b",), "at"), (gaps_of, (FORM, ROW[:2]), "at"), (written, (FORM, ("file",)), "at"),
@@ -82,6 +88,20 @@ class Plain(unittest.TestCase):
             for n in range(len(LOG)):
                 told = question.found(LOG, n)
                 self.assertTrue(told is None or (type(told) is tuple and is_plain(told)), text)
+
+    def test_walks_and_watches_tell_plain_values_that_stay(self):
+        for text in QUESTIONS:
+            question = question_of(text)
+            self.assertTrue(is_plain(walked(question, LOG)), text)
+            watch, pieces = Watch(question), (LOG[:2], (), LOG[2:])
+            before, told = copy.deepcopy(pieces), []
+            for piece in pieces:
+                told.append(watch.take(piece))
+                self.assertIs(type(watch.kept()), int)
+            as_told = copy.deepcopy(told)
+            self.assertTrue(is_plain(watch.end()))
+            self.assertTrue(all(map(is_plain, told)), text)
+            self.assertEqual((pieces, told), (before, as_told))
 
     def test_what_is_handed_in_is_not_changed(self):
         for function, handed in CALLS:

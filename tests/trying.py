@@ -125,3 +125,48 @@ def runs_drawn(chance, many, most_runs, longest):
         if run not in others and len(kind) < most_runs:
             kind.append(run)
     return tuple(good), tuple(bad)
+
+
+def stretches_of(run):
+    """Each stretch that the run has: its letters, whether at the beginning, whether at the end."""
+    for start in range(len(run) + 1):
+        for stop in range(start, len(run) + 1):
+            for head in (True, False) if start == 0 else (False,):
+                for tail in (True, False) if stop == len(run) else (False,):
+                    yield run[start:stop], head, tail
+
+
+def stretches_let_by(machine, longest):
+    """Each stretch of at most so many letters that some run let by has. Of all runs that have one, a shortest that is
+    let by has fewer letters ahead of it than there are rooms, and fewer behind it, for no room is come by twice."""
+    size = len(machine[1])
+    found = set()
+    for run in runs_in_order(machine[0], longest + 2 * (size - 1)):
+        if is_let_by(machine, run):
+            found.update(stretch for stretch in stretches_of(run) if len(stretch[0]) <= longest)
+    return found
+
+
+def rooms_led_to(machine, rooms, run):
+    for letter in run:
+        rooms = {machine[1][room][1][letter] for room in rooms}
+    return rooms
+
+
+def rooms_from(machine, room):
+    """Each room that some run leads to from this one."""
+    found, left = {room}, [room]
+    while left:
+        for there in machine[1][left.pop()][1]:
+            if there not in found:
+                found.add(there)
+                left.append(there)
+    return found
+
+
+def is_odd_by_rooms(machine, run, head, tail):
+    """By the rooms that runs lead to, for runs that are too long to be gone through."""
+    behind = rooms_led_to(machine, {0} if head else rooms_from(machine, 0), run)
+    if not tail:
+        behind = {there for room in behind for there in rooms_from(machine, room)}
+    return not any(machine[1][room][0] for room in behind)
