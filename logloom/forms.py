@@ -35,16 +35,28 @@ def gaps_of(form, row):
     return tuple([word for part, word in zip(form, row) if is_gap(part)])
 
 
+def filled(form, gaps):
+    words = []
+    done = 0
+    for part in form:
+        if is_gap(part):
+            words.append(gaps[done])
+            done = done + 1
+        else:
+            words.append(part[1])
+    return tuple(words)
+
+
 def written(form, gaps):
     at = first_misfit([part for part in form if is_gap(part)], gaps)
     if at is not None:
         raise NoGap(at)
-    words = []
-    filled = 0
-    for part in form:
-        if is_gap(part):
-            words.append(gaps[filled])
-            filled = filled + 1
-        else:
-            words.append(part[1])
-    return " ".join(words)
+    return " ".join(filled(form, gaps))
+
+
+def first_writing(forms, row):
+    # The number of the first form that writes the row, None where none does.
+    for number, form in enumerate(forms):
+        if writes(form, row):
+            return number
+    return None
